@@ -1,0 +1,1 @@
+"""A store by lots: kits, reservations, recalls."""

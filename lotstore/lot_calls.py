@@ -1,0 +1,108 @@
+"""The calls on lots, and the day that makes them old. Each answers a list of numbers."""
+
+from lotstore.article_calls import plain_refusal
+from lotstore.refusals import CALLED_BACK, FULL, GRANTED, NOT_ENOUGH, NO_LOT, PAST_DAY, PAST_LAST_DAY
+from lotstore.refusals import STILL_HELD, TOLD_OTHERWISE
+from lotstore.rows import lot_row, row
+from lotstore.shelf import drop_held, is_good
+from lotstore.store import Lot
+
+MOST_LOTS = 256
+MOST_RECEIVED = 1000000000
+MOST_GAINED = 1000000000000000
+
+
+def set_day(store, day):
+    if day < store.day:
+        return [PAST_DAY]
+    store.day = day
+    dropped = []
+    for lot in store.lots.values():
+        if lot.last_day < day:
+            dropped.extend([(session, lot.number, count) for session, count in drop_held(store, lot)])
+    return row(dropped)
+
+
+def known_lot_refusal(lot, article, amount, last_day, day):
+    """What refuses that more of a known lot is received."""
+    if lot.article != article or lot.last_day != last_day:
+        return TOLD_OTHERWISE
+    if lot.called_back:
+        return CALLED_BACK
+    if last_day < day:
+        return PAST_LAST_DAY
+    return FULL if lot.received + amount > MOST_RECEIVED else GRANTED
+
+
+def new_lot_refusal(store, last_day):
+    """What refuses that a lot is received for the first time."""
+    if last_day < store.day:
+        return PAST_LAST_DAY
+    return FULL if len(store.lots) >= MOST_LOTS else GRANTED
+
+
+def receive(store, number, article, amount, last_day):
+    refusal = plain_refusal(store, article)
+    if refusal == GRANTED and number in store.lots:
+        refusal = known_lot_refusal(store.lots[number], article, amount, last_day, store.day)
+    elif refusal == GRANTED:
+        refusal = new_lot_refusal(store, last_day)
+    if refusal != GRANTED:
+        return [refusal]
+    lot = store.lots.setdefault(number, Lot(number, article, last_day, store.day))
+    lot.received += amount
+    lot.free += amount
+    return [lot.received]
+
+
+def throw_away(store, lot, count, reason):
+    lot.free -= count
+    lot.thrown += count
+    store.thrown_for[reason] += count
+
+
+def throw(store, number, count, reason):
+    if number not in store.lots:
+        return [NO_LOT]
+    lot = store.lots[number]
+    if lot.free < count:
+        return [NOT_ENOUGH]
+    throw_away(store, lot, count, reason)
+    return [lot.free]
+
+
+def sweep(store, reason):
+    spoiled = [lot for lot in store.lots.values() if lot.free > 0 and not is_good(lot, store.day)]
+    swept = [(lot, lot.free) for lot in spoiled]
+    for lot, count in swept:
+        throw_away(store, lot, count, reason)
+    return lot_row(swept)
+
+
+def take_stock(store, number, present):
+    if number not in store.lots:
+        return [NO_LOT]
+    lot = store.lots[number]
+    held = sum(lot.held.values())
+    if present < held:
+        return [STILL_HELD]
+    grown = max(present - held - lot.free, 0)
+    if grown > 0 and lot.gained + grown > MOST_GAINED:
+        return [FULL]
+    shrunk = max(lot.free - (present - held), 0)
+    lot.free = present - held
+    lot.gained += grown
+    lot.lost += shrunk
+    return [grown, shrunk]
+
+
+def recall(store, number):
+    if number not in store.lots:
+        return [NO_LOT]
+    lot = store.lots[number]
+    if lot.called_back:
+        return [CALLED_BACK]
+    used = sorted(lot.used.items())
+    dropped = drop_held(store, lot)
+    lot.called_back = True
+    return row(used) + row(dropped)

@@ -1,0 +1,14 @@
+"""Rows, as they stand in an answer."""
+
+
+def row(members):
+    """How many members there are, then their numbers, member after member."""
+    told = [len(members)]
+    for member in members:
+        told.extend(member)
+    return told
+
+
+def lot_row(shares):
+    """The row of shares of lots: each lot's number and the count."""
+    return row([(lot.number, count) for lot, count in shares])
