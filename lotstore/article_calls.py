@@ -27,7 +27,8 @@ def set_least(store, number, least):
     refusal = plain_refusal(store, number)
     if refusal != GRANTED:
         return [refusal]
-    store.articles[number].least = least
+    article = store.articles[number]
+    article.least = least
     return [0]
 
 
@@ -51,7 +52,9 @@ def set_recipe(store, number, parts):
     measures = measures_after(store.articles, number, parts)
     if not all([within_limits(measure) for measure in measures.values()]):
         return [TOO_GREAT]
-    store.articles[number].parts = parts
+    changed = store.articles[number]
+    changed.parts = parts
     for each, measure in measures.items():
-        store.articles[each].measure = measure
+        article = store.articles[each]
+        article.measure = measure
     return [0]

@@ -17,36 +17,36 @@ def set_day(store, day):
         return [PAST_DAY]
     store.day = day
     dropped = []
-    for lot in store.lots.values():
-        if lot.last_day < day:
-            dropped.extend([(session, lot.number, count) for session, count in drop_held(store, lot)])
+    for lot in [each for each in store.lots.values() if each.last_day < day]:
+        dropped.extend([(session, lot.number, count) for session, count in drop_held(store, lot)])
     return row(dropped)
 
 
-def known_lot_refusal(lot, article, amount, last_day, day):
-    """What refuses that more of a known lot is received."""
+def telling_refusal(lot, article, last_day):
+    """What refuses that more of a known lot comes, told like this."""
     if lot.article != article or lot.last_day != last_day:
         return TOLD_OTHERWISE
-    if lot.called_back:
-        return CALLED_BACK
-    if last_day < day:
-        return PAST_LAST_DAY
-    return FULL if lot.received + amount > MOST_RECEIVED else GRANTED
+    return CALLED_BACK if lot.called_back else GRANTED
 
 
-def new_lot_refusal(store, last_day):
-    """What refuses that a lot is received for the first time."""
-    if last_day < store.day:
-        return PAST_LAST_DAY
+def room_refusal(store, number, amount):
+    """What refuses so many of a lot, known or not, because the store is full."""
+    if number in store.lots:
+        return FULL if store.lots[number].received + amount > MOST_RECEIVED else GRANTED
     return FULL if len(store.lots) >= MOST_LOTS else GRANTED
 
 
-def receive(store, number, article, amount, last_day):
+def receive_refusal(store, number, article, amount, last_day):
     refusal = plain_refusal(store, article)
     if refusal == GRANTED and number in store.lots:
-        refusal = known_lot_refusal(store.lots[number], article, amount, last_day, store.day)
-    elif refusal == GRANTED:
-        refusal = new_lot_refusal(store, last_day)
+        refusal = telling_refusal(store.lots[number], article, last_day)
+    if refusal == GRANTED and last_day < store.day:
+        refusal = PAST_LAST_DAY
+    return refusal or room_refusal(store, number, amount)
+
+
+def receive(store, number, article, amount, last_day):
+    refusal = receive_refusal(store, number, article, amount, last_day)
     if refusal != GRANTED:
         return [refusal]
     lot = store.lots.setdefault(number, Lot(number, article, last_day, store.day))
@@ -87,7 +87,7 @@ def take_stock(store, number, present):
     if present < held:
         return [STILL_HELD]
     grown = max(present - held - lot.free, 0)
-    if grown > 0 and lot.gained + grown > MOST_GAINED:
+    if lot.gained + grown > MOST_GAINED:
         return [FULL]
     shrunk = max(lot.free - (present - held), 0)
     lot.free = present - held

@@ -99,7 +99,8 @@ def release(store, number):
     for lot, count in released:
         lot.held.pop(number)
         lot.free += count
-    store.sessions[number].broken = False
+    session = store.sessions[number]
+    session.broken = False
     return lot_row(released)
 
 

@@ -41,8 +41,9 @@ def add_count(counts, session, count):
 def drop_held(store, lot):
     """Drops what is held of a lot; answers pairs of a session's number and a count, the smaller number first."""
     dropped = sorted(lot.held.items())
-    for session, count in dropped:
+    for number, count in dropped:
         lot.free += count
-        store.sessions[session].broken = True
+        session = store.sessions[number]
+        session.broken = True
     lot.held = {}
     return dropped

@@ -38,6 +38,7 @@ class AnswersTest(unittest.TestCase):
     def test_what_is_no_call(self):
         self.assertEqual(lotstore.desk.answers([-1, 5]), [1, -100])
         self.assertEqual(lotstore.desk.answers([31]), [1, -100])
+        self.assertEqual(lotstore.desk.answers([len(lotstore.desk.ARGUMENTS), 1]), [1, -100])
         self.assertEqual(lotstore.desk.answers([5, 1, 6]), [1, 0, 1, -100])
         self.assertEqual(lotstore.desk.answers([5, 1, 3, 1]), [1, 0, 1, -100])
         self.assertEqual(lotstore.desk.answers([3, 1, -1]), [1, -100])
