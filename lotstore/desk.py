@@ -1,9 +1,12 @@
 """The desk: one list of numbers in, the calls on a new store; one list of numbers out, their answers."""
 
 from lotstore.article_calls import add_article, set_least, set_recipe
-from lotstore.lot_calls import recall, receive, set_day, sweep, take_stock, throw
+from lotstore.article_looks import tell_able, tell_lasts, tell_low, tell_need, tell_parts, tell_shelf, tell_short
+from lotstore.lot_calls import recall, recall_of, receive, set_day, sweep, take_stock, throw
+from lotstore.lot_looks import tell_lot, tell_reasons, tell_soon, tell_who
 from lotstore.refusals import BAD_ARGUMENT, NOT_A_CALL
 from lotstore.session_calls import bring_back, close_session, issue, open_session, release, reserve, take
+from lotstore.session_looks import tell_cluster, tell_held, tell_uses
 from lotstore.store import Store
 
 # The least and the greatest number that is granted.
@@ -38,9 +41,25 @@ ARGUMENTS = (
     ("reason",),
     ("lot", "stock"),
     ("lot",),
+    ("article", "day", "day"),
+    ("article", "amount"),
+    ("article",),
+    ("article", "amount"),
+    ("article",),
+    ("lot",),
+    ("lot",),
+    ("session",),
+    ("session",),
+    ("article",),
+    (),
+    ("day",),
+    ("article", "amount"),
+    (),
+    ("session",),
 )
 
 RECIPE = 3
+RECALL_OF = 16
 MOST_PART_NUMBERS = 32
 
 
@@ -68,11 +87,44 @@ def are_arguments_granted(call):
     for number, meaning in zip(call[1:], meanings):
         if not is_granted(number, meaning):
             return False
+    if call[0] == RECALL_OF:
+        return call[2] <= call[3]
     return call[0] != RECIPE or are_parts_granted(call[3:])
 
 
-def perform(store, place, given):
-    """Answers the call at this place with arguments in their ranges."""
+def look(store, place, given):
+    """Answers the call at this place, one of those that change nothing, with arguments in their ranges."""
+    if place == 17:
+        return tell_need(store, given[0], given[1])
+    if place == 18:
+        return tell_able(store, given[0])
+    if place == 19:
+        return tell_short(store, given[0], given[1])
+    if place == 20:
+        return tell_shelf(store, given[0])
+    if place == 21:
+        return tell_lot(store, given[0])
+    if place == 22:
+        return tell_who(store, given[0])
+    if place == 23:
+        return tell_uses(store, given[0])
+    if place == 24:
+        return tell_held(store, given[0])
+    if place == 25:
+        return tell_parts(store, given[0])
+    if place == 26:
+        return tell_low(store)
+    if place == 27:
+        return tell_soon(store, given[0])
+    if place == 28:
+        return tell_lasts(store, given[0], given[1])
+    if place == 29:
+        return tell_reasons(store)
+    return tell_cluster(store, given[0])
+
+
+def change(store, place, given):
+    """Answers the call at this place, one of those that may change the store, with arguments in their ranges."""
     if place == 0:
         return set_day(store, given[0])
     if place == 1:
@@ -103,13 +155,17 @@ def perform(store, place, given):
         return sweep(store, given[0])
     if place == 14:
         return take_stock(store, given[0], given[1])
-    return recall(store, given[0])
+    if place == 15:
+        return recall(store, given[0])
+    return recall_of(store, given[0], given[1], given[2])
 
 
 def answer_call(store, call):
     if not are_arguments_granted(call):
         return [BAD_ARGUMENT]
-    return perform(store, call[0], call[1:])
+    if call[0] <= RECALL_OF:
+        return change(store, call[0], call[1:])
+    return look(store, call[0], call[1:])
 
 
 def call_length(calls, start):

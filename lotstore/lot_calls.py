@@ -3,7 +3,7 @@
 from lotstore.article_calls import plain_refusal
 from lotstore.refusals import CALLED_BACK, FULL, GRANTED, NOT_ENOUGH, NO_LOT, PAST_DAY, PAST_LAST_DAY
 from lotstore.refusals import STILL_HELD, TOLD_OTHERWISE
-from lotstore.rows import lot_row, row
+from lotstore.rows import lot_row, number_row, row
 from lotstore.shelf import drop_held, is_good
 from lotstore.store import Lot
 
@@ -106,3 +106,16 @@ def recall(store, number):
     dropped = drop_held(store, lot)
     lot.called_back = True
     return row(used) + row(dropped)
+
+
+def recall_of(store, article, first, last):
+    """Calls back the article's lots that first came from the day first to the day last."""
+    refusal = plain_refusal(store, article)
+    if refusal != GRANTED:
+        return [refusal]
+    its_lots = [lot for lot in store.lots.values() if lot.article == article and not lot.called_back]
+    called = [lot for lot in its_lots if first <= lot.first_day <= last]
+    for lot in called:
+        drop_held(store, lot)
+        lot.called_back = True
+    return number_row([lot.number for lot in called])

@@ -9,6 +9,11 @@ def row(members):
     return told
 
 
+def number_row(numbers):
+    """The row of members that are one number each."""
+    return [len(numbers)] + numbers
+
+
 def lot_row(shares):
     """The row of shares of lots: each lot's number and the count."""
     return row([(lot.number, count) for lot, count in shares])

@@ -4,7 +4,7 @@ from lotstore.kits import need_of
 from lotstore.refusals import BROKEN, CLOSED, FULL, GRANTED, KNOWN_ALREADY, NOT_ENOUGH, NOT_THAT_MANY
 from lotstore.refusals import NO_ARTICLE, NO_LOT, NO_SESSION, STILL_HELD
 from lotstore.rows import lot_row
-from lotstore.shelf import add_count, is_there, pick
+from lotstore.shelf import add_count, missing_of, pick
 from lotstore.store import Session
 
 MOST_SESSIONS = 128
@@ -29,12 +29,17 @@ def need_refusal(store, article, amount):
     """What refuses that so many of the article are handed out."""
     if article not in store.articles:
         return NO_ARTICLE
-    return GRANTED if is_there(store, need_of(store.articles[article], amount)) else NOT_ENOUGH
+    return NOT_ENOUGH if missing_of(store, need_of(store.articles[article], amount)) else GRANTED
 
 
 def held_for(store, number):
     """What is held for the session: pairs of a lot and a count, in the order in which the lots first came."""
     return [(lot, lot.held[number]) for lot in store.lots.values() if number in lot.held]
+
+
+def used_by(store, number):
+    """What the session used: pairs of a lot and a count, in the order in which the lots first came."""
+    return [(lot, lot.used[number]) for lot in store.lots.values() if number in lot.used]
 
 
 def open_session(store, number):
@@ -55,7 +60,7 @@ def close_session(store, number):
     session = store.sessions[number]
     session.closed = True
     session.broken = False
-    return [sum([lot.used.get(number, 0) for lot in store.lots.values()])]
+    return [sum([count for lot, count in used_by(store, number)])]
 
 
 def issue(store, number, article, amount):

@@ -12,12 +12,15 @@ def good_lots(store, article):
     return sorted(good, key=lambda lot: lot.last_day)
 
 
-def is_there(store, need):
-    """Whether enough is there for a need, given as pairs of a plain article's number and a count."""
-    for plain, count in need:
-        if sum([lot.free for lot in good_lots(store, plain)]) < count:
-            return False
-    return True
+def count_there(store, plain):
+    """How many of the plain article are there."""
+    return sum([lot.free for lot in good_lots(store, plain)])
+
+
+def missing_of(store, need):
+    """What isn't there of a need: as the need, pairs of a plain article's number and a count."""
+    beyond = [(plain, count - count_there(store, plain)) for plain, count in need]
+    return [(plain, missing) for plain, missing in beyond if missing > 0]
 
 
 def pick(store, need):

@@ -5,12 +5,13 @@ import random
 from tests.lines import GREATEST_NUMBER, LEAST_NUMBER
 from tests.model import Model
 
-# How often each place is called, by the kind of line.
+# How often each place is called, by the kind of line: the places 0 to 16, which may change something, then the others.
 WEIGHTS = {
-    "mixed": [4, 2, 1, 3, 22, 3, 1, 18, 14, 6, 4, 12, 4, 2, 5, 2],
-    "kits": [1, 6, 1, 50, 6, 2, 1, 20, 8, 2, 2, 2, 1, 1, 1, 1],
-    "holding": [9, 1, 1, 1, 26, 3, 1, 6, 34, 5, 4, 3, 2, 2, 6, 5],
-    "strange": [2] * 16,
+    "mixed": [4, 2, 1, 3, 22, 3, 1, 18, 14, 6, 4, 12, 4, 2, 5, 2, 1] + [2] * 14,
+    "kits": [1, 6, 1, 50, 6, 2, 1, 20, 8, 2, 2, 2, 1, 1, 1, 1, 1] + [6, 4, 6, 1, 1, 1, 1, 1, 4, 3, 1, 1, 1, 1],
+    "holding": [9, 1, 1, 1, 26, 3, 1, 6, 34, 5, 4, 3, 2, 2, 6, 3, 3] + [1] * 14,
+    "looking": [2, 1, 2, 2, 16, 2, 1, 14, 8, 4, 2, 8, 3, 1, 3, 1, 1] + [6] * 14,
+    "strange": [2] * 31,
 }
 STRANGE = [0, -1, 10, 1000, 1001, 1000000, 1000001, 10 ** 9, 10 ** 9 + 1, 10 ** 15, 10 ** 15 + 1, LEAST_NUMBER,
            GREATEST_NUMBER]
@@ -38,9 +39,9 @@ class Caller:
         return calls
 
     def call(self):
-        place = self.random.choices(range(16), WEIGHTS[self.kind])[0]
+        place = self.random.choices(range(31), WEIGHTS[self.kind])[0]
         call = [place, *self.arguments(place)]
-        if self.kind == "strange" and self.random.random() < 0.3:
+        if self.kind == "strange" and len(call) > 1 and self.random.random() < 0.3:
             at = self.random.randrange(1, len(call))
             # How long a list is has to be true.
             call[at] = call[at] if place == 3 and at == 2 else self.random.choice(STRANGE)
@@ -100,7 +101,28 @@ class Caller:
             return [self.lot(), self.amount(), self.random.randint(1, 9)]
         if place == 13:
             return [self.random.randint(1, 9)]
-        return [self.lot(), self.amount() * 2][:16 - place]
+        if place == 14:
+            return [self.lot(), self.amount() * 2]
+        if place == 15:
+            return [self.lot()]
+        if place == 16:
+            return [self.article(), *self.some_days()]
+        return self.looking_arguments(place)
+
+    def looking_arguments(self, place):
+        if place in (17, 19, 28):
+            return [self.article(), self.amount()]
+        if place in (18, 20, 25):
+            return [self.article()]
+        if place in (21, 22):
+            return [self.lot()]
+        if place in (23, 24, 30):
+            return [self.random.randint(1, 30) if self.seldom() else self.random.choice(self.model.sessions)]
+        return [self.random.randint(0, 12)] if place == 27 else []
+
+    def some_days(self):
+        first = max(0, self.model.day - self.random.randint(0, 12))
+        return [first, first + self.random.randint(-1, 3)]
 
     def something_used(self):
         used = [(lot, place[1], count) for (lot, place), count in self.model.book.items() if place[0] == "used" and count]

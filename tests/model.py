@@ -1,4 +1,4 @@
-"""A second, slow telling of the points 0 to 15: an account book in which every piece moves from place to place."""
+"""A second, slow telling of the document: an account book in which every piece moves from place to place."""
 
 from collections import Counter
 
@@ -6,7 +6,8 @@ CAME, GAINED, FREE, LOST = "came", "gained", "free", "lost"
 MILLION = 1000000
 BOUNDS = {"d": (0, MILLION), "a": (1, MILLION), "s": (0, MILLION), "l": (1, 1000 * MILLION), "k": (1, 1000 * MILLION),
           "n": (1, MILLION), "e": (0, MILLION), "p": (1, 10 ** 15), "w": (1, 9), "m": (0, 10 ** 9)}
-LETTERS = ["d", "as", "as", "a", "lane", "k", "k", "kan", "kan", "k", "k", "klp", "lpw", "w", "lm", "l"]
+LETTERS = ["d", "as", "as", "a", "lane", "k", "k", "kan", "kan", "k", "k", "klp", "lpw", "w", "lm", "l",
+           "ade", "an", "a", "an", "a", "l", "l", "k", "k", "a", "", "d", "an", "", "k"]
 
 
 class Refused(Exception):
@@ -25,6 +26,7 @@ class Model:
         self.recipes = {}
         self.lots = []
         self.lot_facts = {}
+        self.first_days = {}
         self.called_back = set()
         self.sessions = []
         self.closed = set()
@@ -39,7 +41,9 @@ class Model:
                 return self.recipe(numbers[0], numbers[2:])
             return [self.set_day, self.article, self.set_least, None, self.receive, self.open, self.close, self.issue,
                     self.reserve, self.take, self.release, self.unused, self.throw, self.sweep, self.count,
-                    self.recall][place](*numbers)
+                    self.recall, self.recallof, self.tell_need, self.able, self.short, self.shelf, self.lot, self.who,
+                    self.uses, self.held, self.parts, self.low, self.soon, self.lasts, self.reasons,
+                    self.cluster][place](*numbers)
         except Refused as refused:
             return [refused.args[0]]
 
@@ -47,6 +51,7 @@ class Model:
         for letter, number in zip(LETTERS[place], numbers):
             low, high = BOUNDS[letter]
             refuse(number < low or number > high, -1)
+        refuse(place == 16 and numbers[1] > numbers[2], -1)
         if place == 3:
             parts = numbers[2:]
             refuse(len(parts) % 2 == 1 or len(parts) > 32, -1)
@@ -91,9 +96,12 @@ class Model:
         self.recipes[a] = []
         return [0]
 
-    def set_least(self, a, m):
+    def want_plain(self, a):
         refuse(a not in self.least, -4)
         refuse(self.recipes[a], -9)
+
+    def set_least(self, a, m):
+        self.want_plain(a)
         self.least[a] = m
         return [0]
 
@@ -130,8 +138,7 @@ class Model:
         return self.depth(a) > 8 or self.size(a) > 256 or max(self.need(a, 1).values()) > MILLION
 
     def receive(self, l, a, n, e):
-        refuse(a not in self.least, -4)
-        refuse(self.recipes[a], -9)
+        self.want_plain(a)
         if l in self.lots:
             refuse(self.lot_facts[l] != (a, e), -12)
             refuse(l in self.called_back, -13)
@@ -141,6 +148,7 @@ class Model:
         if l not in self.lots:
             self.lots.append(l)
             self.lot_facts[l] = (a, e)
+            self.first_days[l] = self.day
         self.move(l, CAME, FREE, n)
         return [-self.amount(l, CAME)]
 
@@ -161,12 +169,16 @@ class Model:
         self.broken.discard(k)
         return [sum(count for _, count in self.belongings("used", k))]
 
+    def lots_of(self, a):
+        return [lot for lot in self.lots if self.lot_facts[lot][0] == a]
+
+    def there(self, a):
+        return sum(self.amount(lot, FREE) for lot in self.lots_of(a) if self.good(lot))
+
     def hand_out(self, kind, k, a, n):
         refuse(a not in self.least, -4)
         need = self.need(a, n)
-        for plain, count in need.items():
-            there = [self.amount(lot, FREE) for lot in self.lots if self.lot_facts[lot][0] == plain and self.good(lot)]
-            refuse(sum(there) < count, -15)
+        refuse(any(self.there(plain) < count for plain, count in need.items()), -15)
         picked = []
         for plain in sorted(need):
             for _, _, lot in sorted((self.lot_facts[lot][1], at, lot) for at, lot in enumerate(self.lots)
@@ -237,6 +249,98 @@ class Model:
         used = self.shares("used", l)
         self.called_back.add(l)
         return told(used) + told(self.drop(l))
+
+    def recallof(self, a, d, e):
+        self.want_plain(a)
+        came = [lot for lot in self.lots_of(a) if self.first_days[lot] in range(d, e + 1)]
+        called = [lot for lot in came if lot not in self.called_back]
+        for lot in called:
+            self.drop(lot)
+            self.called_back.add(lot)
+        return told([(lot,) for lot in called])
+
+    def tell_need(self, a, n):
+        refuse(a not in self.least, -4)
+        return told(sorted(self.need(a, n).items()))
+
+    def able(self, a):
+        """Halves the span in which the greatest number lies."""
+        refuse(a not in self.least, -4)
+        low, high = 0, MILLION
+        while low < high:
+            middle = (low + high + 1) // 2
+            enough = all(self.there(plain) >= count for plain, count in self.need(a, middle).items())
+            low, high = (middle, high) if enough else (low, middle - 1)
+        return [low]
+
+    def short(self, a, n):
+        refuse(a not in self.least, -4)
+        missing = self.need(a, n) - Counter({plain: self.there(plain) for plain in self.least})
+        return told(sorted(missing.items()))
+
+    def shelf(self, a):
+        self.want_plain(a)
+        totals = [self.totals(lot) for lot in self.lots_of(a)]
+        return [self.there(a)] + [sum(counts[at] for counts in totals) for at in (2, 3, 4)]
+
+    def lot(self, l):
+        refuse(l not in self.lots, -5)
+        return [*self.lot_facts[l], self.first_days[l], *self.totals(l), int(l in self.called_back)]
+
+    def who(self, l):
+        refuse(l not in self.lots, -5)
+        return told(self.shares("used", l))
+
+    def uses(self, k):
+        refuse(k not in self.sessions, -6)
+        return told(self.belongings("used", k))
+
+    def held(self, k):
+        refuse(k not in self.sessions, -6)
+        return [int(k in self.closed), int(k in self.broken), *told(self.belongings("held", k))]
+
+    def parts(self, a):
+        refuse(a not in self.least, -4)
+        return [self.least[a], *told(self.recipes[a])]
+
+    def low(self):
+        wanted = Counter({a: self.least[a] - self.there(a) for a in self.least if not self.recipes[a]})
+        return told(sorted((+wanted).items()))
+
+    def soon(self, d):
+        spans = [(self.lot_facts[lot][1], at, lot) for at, lot in enumerate(self.lots) if self.good(lot)]
+        near = [(lot, last, self.amount(lot, FREE)) for last, _, lot in sorted(spans) if last - self.day <= d]
+        return told([three for three in near if three[2]])
+
+    def lasts(self, a, q):
+        """Plays the days one after another."""
+        self.want_plain(a)
+        left = sorted([self.lot_facts[lot][1], at, self.amount(lot, FREE)] for at, lot in enumerate(self.lots)
+                      if lot in self.lots_of(a) and self.good(lot))
+        spoiled = 0
+        for days in range(3650):
+            spoiled += sum(count for last, _, count in left if last < self.day + days)
+            left = [share for share in left if share[0] >= self.day + days and share[2]]
+            if sum(count for _, _, count in left) < q:
+                return [days, spoiled]
+            wanted = q
+            for share in left:
+                count = min(share[2], wanted)
+                share[2] -= count
+                wanted -= count
+        return [3650, spoiled]
+
+    def reasons(self):
+        return [sum(self.amount(lot, ("thrown", w)) for lot in self.lots) for w in range(1, 10)]
+
+    def cluster(self, k):
+        """Joins whole lots until nothing more is joined."""
+        refuse(k not in self.sessions, -6)
+        found = {k}
+        users = [{session for session, _ in self.shares("used", lot)} for lot in self.lots]
+        while any(group & found and group - found for group in users):
+            found = found.union(*[group for group in users if group & found])
+        return told([(session,) for session in sorted(found)])
 
     def totals(self, lot):
         """Received, gained, free, held, used, thrown away and lost, as the book tells them."""

@@ -1,7 +1,7 @@
-"""The ranges of all arguments of the points 0 to 15, and -1 ahead of every other refusal."""
+"""The ranges of all arguments, and -1 ahead of every other refusal."""
 
-from tests.lines import (GREATEST_NUMBER, LEAST_NUMBER, LineCase, article, close, day, granted, open_, recall, receive,
-                         received, recipe)
+from tests.lines import (GREATEST_NUMBER, LEAST_NUMBER, LineCase, article, close, day, granted, open_, recall, recallof,
+                         receive, received, recipe)
 
 MILLION = 1000000
 ARTICLE = (1, MILLION)
@@ -28,11 +28,31 @@ ON_AN_EMPTY_STORE = {
     13: ([(1, 9)], [0]),
     14: ([LOT, (0, 1000 * MILLION)], [-5]),
     15: ([LOT], [-5]),
+    16: ([ARTICLE, DAY, DAY], [-4]),
+    17: ([ARTICLE, AMOUNT], [-4]),
+    18: ([ARTICLE], [-4]),
+    19: ([ARTICLE, AMOUNT], [-4]),
+    20: ([ARTICLE], [-4]),
+    21: ([LOT], [-5]),
+    22: ([LOT], [-5]),
+    23: ([SESSION], [-6]),
+    24: ([SESSION], [-6]),
+    25: ([ARTICLE], [-4]),
+    26: ([], [0]),
+    27: ([DAY], [0]),
+    28: ([ARTICLE, AMOUNT], [-4]),
+    29: ([], [0] * 9),
+    30: ([SESSION], [-6]),
 }
 
 # A store on which nearly every call with the numbers 1 and 2 is refused by something.
 FURNISHED = [*granted(article(1), article(2), recipe(2, 1, 1), open_(1), open_(2)), (close(1), [0]),
              *received(receive(1, 1, 5, 3)), (recall(1), [0, 0]), (day(4), [0])]
+
+
+def in_order(call):
+    """The call, with recallof's last day as great as its first one where it was less."""
+    return call[:3] + [max(call[2:])] if call[0] == 16 else call
 
 
 def outside(bounds):
@@ -46,7 +66,7 @@ class RangesTest(LineCase):
                 for edge in bounds:
                     call = [place, *[low for low, high in ranges]]
                     call[at + 1] = edge
-                    self.check((call, answer))
+                    self.check((in_order(call), answer))
             self.check(([place, *[high for low, high in ranges]], answer))
 
     def test_outside_of_one_range(self):
@@ -72,7 +92,20 @@ class RangesTest(LineCase):
     def test_outside_of_all_ranges(self):
         for place, (ranges, _) in ON_AN_EMPTY_STORE.items():
             for number in (LEAST_NUMBER, GREATEST_NUMBER, -1):
-                self.check(([place, *[number] * len(ranges)], [-1]))
+                if ranges:
+                    self.check(([place, *[number] * len(ranges)], [-1]))
+
+
+class RecallofRangesTest(LineCase):
+    def test_the_first_day_is_not_greater_than_the_last(self):
+        for d, e in ((0, 0), (0, 1), (0, MILLION), (5, 5), (5, 6), (MILLION - 1, MILLION), (MILLION, MILLION)):
+            self.check((recallof(1, d, e), [-4]))
+        for d, e in ((1, 0), (6, 5), (MILLION, 0), (MILLION, MILLION - 1)):
+            self.check((recallof(1, d, e), [-1]))
+
+    def test_goes_before_every_other_refusal(self):
+        self.check(*FURNISHED, (recallof(2, 1, 0), [-1]), (recallof(2, 1, 1), [-9]), (recallof(9, 1, 0), [-1]),
+                   (recallof(9, 0, 0), [-4]), (recallof(1, 1, 0), [-1]), (recallof(1, 0, 0), [0]))
 
 
 class RecipeRangesTest(LineCase):
@@ -114,7 +147,8 @@ class RecipeRangesTest(LineCase):
                 self.check((recipe(1, *pairs), [-1]))
 
     def test_a_number_may_be_a_part_and_a_count(self):
-        self.check(*granted(article(1), article(2), article(3)), (recipe(1, 2, 2, 3, 2), [0]), (recipe(1, 2, 3, 3, 2), [0]))
+        self.check(*granted(article(1), article(2), article(3)), (recipe(1, 2, 2, 3, 2), [0]),
+                   (recipe(1, 2, 3, 3, 2), [0]))
 
     def test_goes_before_every_other_refusal(self):
         self.check(*FURNISHED, (recipe(1, 1), [-1]), (recipe(1, 1, 0), [-1]), (recipe(1, 1, 1, 1, 1), [-1]),
