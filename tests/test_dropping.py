@@ -1,6 +1,7 @@
 """Points 0 and 15: day and recall, and what they drop."""
 
-from tests.lines import (LineCase, article, close, count, day, granted, issue, open_, recall, receive, received, release,
+from tests.lines import (LineCase, article, close, count, day, granted, issue, open_, recall, receive, received,
+                         release,
                          reserve, row, sweep, take, throw, unused)
 
 LOTS = [*granted(article(1), article(2), article(3), open_(9), open_(4), open_(6)),
@@ -58,7 +59,8 @@ class RecallTest(LineCase):
         self.assertTrue(all(lot.called_back for lot in store.lots.values()))
 
     def test_the_smaller_session_first(self):
-        self.check(*LOTS, (issue(9, 1, 3), row((13, 3))), (issue(4, 1, 2), row((13, 2))), (issue(6, 1, 1), row((13, 1))),
+        self.check(*LOTS, (issue(9, 1, 3), row((13, 3))), (issue(4, 1, 2), row((13, 2))),
+                   (issue(6, 1, 1), row((13, 1))),
                    (reserve(6, 1, 2), row((13, 2))), (reserve(4, 1, 1), row((13, 1))),
                    (recall(13), [3, 4, 2, 6, 1, 9, 3, 2, 4, 1, 6, 2]))
 
@@ -102,7 +104,8 @@ class BrokenTest(LineCase):
 
     def test_not_refused(self):
         self.check(*self.broken, (issue(9, 3, 1), row((12, 1))), (unused(9, 11, 1), [1]), (take(9), [-16]),
-                   (release(9), row((12, 4))), (take(9), [-17]), (reserve(9, 3, 9), row((12, 9))), (take(9), row((12, 9))))
+                   (release(9), row((12, 4))), (take(9), [-17]), (reserve(9, 3, 9), row((12, 9))),
+                   (take(9), row((12, 9))))
 
     def test_the_rest_is_still_held(self):
         self.check(*self.broken, (throw(12, 7), [-15]), (day(9), row((9, 12, 4))), (close(9), [2]))

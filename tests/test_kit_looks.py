@@ -44,11 +44,13 @@ class NeedTest(LineCase):
 
 class AbleTest(LineCase):
     def test_a_plain_article(self):
-        self.check(*KITS, (able(1), [0]), *received(receive(11, 1, 60, 5)), (able(1), [60]), (receive(11, 1, 1, 5), [61]),
+        self.check(*KITS, (able(1), [0]), *received(receive(11, 1, 60, 5)), (able(1), [60]),
+                   (receive(11, 1, 1, 5), [61]),
                    (able(1), [61]), (able(2), [0]))
 
     def test_a_kit(self):
-        self.check(*STOCK, (able(4), [13]), (throw(20, 1), [39]), (able(4), [13]), (throw(20, 1), [38]), (able(4), [12]),
+        self.check(*STOCK, (able(4), [13]), (throw(20, 1), [39]), (able(4), [13]), (throw(20, 1), [38]),
+                   (able(4), [12]),
                    (throw(20, 38), [0]), (able(4), [0]))
 
     def test_the_scarcest_part_counts(self):
@@ -106,9 +108,11 @@ class ShortTest(LineCase):
                    (short(18, 3), row((1, 765))))
 
     def test_only_what_is_free_and_good_is_there(self):
-        self.check(*STOCK, (issue(9, 1, 5), row((12, 5))), (reserve(9, 1, 5), row((12, 5))), (short(1, 100), row((1, 10))),
+        self.check(*STOCK, (issue(9, 1, 5), row((12, 5))), (reserve(9, 1, 5), row((12, 5))),
+                   (short(1, 100), row((1, 10))),
                    (take(9), row((12, 5))), (unused(9, 12, 10), [0]), (short(1, 100), [0]), (day(4), [0]),
-                   (short(1, 100), row((1, 40))), (recall(20), [0, 0]), (short(4, 1), row((2, 3))), (recall(11), [0, 0]),
+                   (short(1, 100), row((1, 40))), (recall(20), [0, 0]), (short(4, 1), row((2, 3))),
+                   (recall(11), [0, 0]),
                    (short(4, 1), row((1, 2), (2, 3))))
 
     def test_refusals(self):
@@ -118,7 +122,8 @@ class ShortTest(LineCase):
 
 class PartsTest(LineCase):
     def test_a_plain_article(self):
-        self.check(*granted(article(7, 12), article(8, 0), article(9, 1000000)), (parts(7), [12, 0]), (parts(8), [0, 0]),
+        self.check(*granted(article(7, 12), article(8, 0), article(9, 1000000)), (parts(7), [12, 0]),
+                   (parts(8), [0, 0]),
                    (parts(9), [1000000, 0]))
 
     def test_a_kit_in_the_order_in_which_it_was_told(self):
@@ -130,7 +135,8 @@ class PartsTest(LineCase):
         self.check(*granted(*[article(a) for a in range(1, 18)], recipe(1, *told)), (parts(1), [0, 16, *told]))
 
     def test_least_stock_is_kept_through_a_kit(self):
-        self.check(*granted(article(7, 12), article(8, 3), recipe(7, 8, 2)), (parts(7), [12, 1, 8, 2]), (least(7, 5), [-9]),
+        self.check(*granted(article(7, 12), article(8, 3), recipe(7, 8, 2)), (parts(7), [12, 1, 8, 2]),
+                   (least(7, 5), [-9]),
                    (parts(7), [12, 1, 8, 2]), (low(), row((8, 3))), (recipe(7), [0]), (parts(7), [12, 0]),
                    (low(), row((7, 12), (8, 3))), (least(7, 5), [0]), (parts(7), [5, 0]))
 
@@ -166,7 +172,8 @@ class LowTest(LineCase):
                    (low(), row((3, 10))), (sweep(), row((10, 6), (11, 5))), (low(), row((3, 10))))
 
     def test_only_what_is_free_counts(self):
-        self.check(*granted(article(3, 10), open_(9)), *received(receive(10, 3, 12, 4)), (reserve(9, 3, 3), row((10, 3))),
+        self.check(*granted(article(3, 10), open_(9)), *received(receive(10, 3, 12, 4)),
+                   (reserve(9, 3, 3), row((10, 3))),
                    (low(), row((3, 1))), (take(9), row((10, 3))), (low(), row((3, 1))), (unused(9, 10, 1), [2]),
                    (low(), [0]), (throw(10, 1), [9]), (low(), row((3, 1))), (count(10, 20), [11, 0]), (low(), [0]),
                    (count(10, 0), [0, 20]), (low(), row((3, 10))))

@@ -2,7 +2,8 @@
 
 import random
 
-from tests.lines import (LineCase, article, count, day, granted, issue, lasts, lot, open_, recall, receive, received, recipe,
+from tests.lines import (LineCase, article, count, day, granted, issue, lasts, lot, open_, recall, receive, received,
+                         recipe,
                          release, reserve, row, run, shelf, take, throw, unused)
 from tests.model import Model
 
@@ -32,7 +33,8 @@ class LastsTest(LineCase):
                    (lasts(1, 4), [2, 0]), (lasts(1, 5), [2, 0]))
 
     def test_what_is_left_over_for_want_is_not_spoiled(self):
-        self.check(*self.lots((10, 4, 2), (11, 4, 3)), (lasts(1, 3), [2, 0]), (lasts(1, 2), [4, 0]), (lasts(1, 1), [4, 4]),
+        self.check(*self.lots((10, 4, 2), (11, 4, 3)), (lasts(1, 3), [2, 0]), (lasts(1, 2), [4, 0]),
+                   (lasts(1, 1), [4, 4]),
                    (lasts(1, 5), [1, 0]), (lasts(1, 8), [1, 0]), (lasts(1, 9), [0, 0]))
 
     def test_the_smaller_last_day_is_taken_first(self):
@@ -54,7 +56,8 @@ class LastsTest(LineCase):
     def test_from_the_stores_day_on(self):
         self.check(*self.lots((10, 100, 9), (11, 100, 5)), (lasts(1, 20), [10, 0]), (lasts(1, 10), [10, 100]),
                    (day(4), [0]), (lasts(1, 10), [6, 140]), (day(5), [0]), (lasts(1, 10), [5, 150]), (day(6), [0]),
-                   (lasts(1, 10), [4, 60]), (day(9), [0]), (lasts(1, 10), [1, 90]), (day(10), [0]), (lasts(1, 10), [0, 0]))
+                   (lasts(1, 10), [4, 60]), (day(9), [0]), (lasts(1, 10), [1, 90]), (day(10), [0]),
+                   (lasts(1, 10), [0, 0]))
 
     def test_at_the_last_of_all_days(self):
         self.check(*self.lots((10, 100, FAR)), (day(FAR - 1), [0]), (lasts(1, 1), [2, 98]), (day(FAR), [0]),
@@ -84,7 +87,8 @@ class LastsTest(LineCase):
                    (lasts(1, 2), [8, 0]), (take(9), row((11, 4))), (lasts(1, 2), [8, 0]), (unused(9, 11, 4), [0]),
                    (lasts(1, 2), [9, 2]), (throw(11, 8), [2]), (lasts(1, 2), [6, 0]), (recall(11), [0, 0]),
                    (lasts(1, 2), [5, 0]), (count(10, 5), [0, 5]), (lasts(1, 2), [2, 0]), (issue(9, 1, 1), row((10, 1))),
-                   (reserve(9, 1, 3), row((10, 3))), (lasts(1, 1), [1, 0]), (release(9), row((10, 3))), (lasts(1, 1), [4, 0]),
+                   (reserve(9, 1, 3), row((10, 3))), (lasts(1, 1), [1, 0]), (release(9), row((10, 3))),
+                   (lasts(1, 1), [4, 0]),
                    (day(8), [0]), (lasts(1, 1), [1, 3]), (day(9), [0]), (lasts(1, 1), [0, 0]))
 
     def test_it_is_played_only(self):
@@ -92,7 +96,8 @@ class LastsTest(LineCase):
                    (shelf(1), [10, 10, 0, 0]), (lasts(1, 1), [3, 7]), (day(0), [0]))
 
     def test_great_numbers(self):
-        self.check(*self.lots((10, 1000000, 5), (11, 1000000, 5)), (lasts(1, 1000000), [2, 0]), (lasts(1, 999999), [2, 0]),
+        self.check(*self.lots((10, 1000000, 5), (11, 1000000, 5)), (lasts(1, 1000000), [2, 0]),
+                   (lasts(1, 999999), [2, 0]),
                    (lasts(1, 333333), [6, 2]), (lasts(1, 1), [6, 1999994]))
 
     def test_256_lots(self):
@@ -101,7 +106,8 @@ class LastsTest(LineCase):
                    (lasts(1, 4), [192, 0]))
 
     def test_refusals(self):
-        self.check(*self.lots((10, 10, 2)), (lasts(4, 1), [-4]), (lasts(3, 1), [-9]), (lasts(3, 0), [-1]), (lasts(4, 0), [-1]),
+        self.check(*self.lots((10, 10, 2)), (lasts(4, 1), [-4]), (lasts(3, 1), [-9]), (lasts(3, 0), [-1]),
+                   (lasts(4, 0), [-1]),
                    (lasts(1, 0), [-1]), (lasts(1, 1000001), [-1]), (lasts(0, 1), [-1]), (lasts(1000001, 1), [-1]),
                    (lasts(1000000, 1000000), [-4]))
 

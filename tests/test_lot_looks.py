@@ -9,11 +9,13 @@ STOCK = [*granted(article(1), article(2), article(3), recipe(3, 2, 1), open_(9),
 
 class ShelfTest(LineCase):
     def test_what_is_there_free_held_used(self):
-        self.check(*STOCK, (shelf(1), [80, 80, 0, 0]), (issue(9, 1, 35), row((11, 30), (12, 5))), (shelf(1), [45, 45, 0, 35]),
+        self.check(*STOCK, (shelf(1), [80, 80, 0, 0]), (issue(9, 1, 35), row((11, 30), (12, 5))),
+                   (shelf(1), [45, 45, 0, 35]),
                    (reserve(4, 1, 8), row((12, 8))), (reserve(6, 1, 2), row((12, 2))), (shelf(1), [35, 35, 10, 35]),
                    (take(4), row((12, 8))), (shelf(1), [35, 35, 2, 43]), (release(6), row((12, 2))),
                    (shelf(1), [37, 37, 0, 43]), (unused(9, 11, 10), [20]), (shelf(1), [47, 47, 0, 33]),
-                   (unused(9, 11, 20), [0]), (unused(9, 12, 5), [0]), (unused(4, 12, 8), [0]), (shelf(1), [80, 80, 0, 0]),
+                   (unused(9, 11, 20), [0]), (unused(9, 12, 5), [0]), (unused(4, 12, 8), [0]),
+                   (shelf(1), [80, 80, 0, 0]),
                    (shelf(2), [40, 40, 0, 0]))
 
     def test_lots_that_are_not_good(self):
@@ -29,7 +31,8 @@ class ShelfTest(LineCase):
 
     def test_throw_and_count(self):
         self.check(*STOCK, (reserve(9, 1, 5), row((11, 5))), (throw(11, 10), [15]), (shelf(1), [65, 65, 5, 0]),
-                   (count(11, 35), [15, 0]), (shelf(1), [80, 80, 5, 0]), (count(11, 5), [0, 30]), (shelf(1), [50, 50, 5, 0]),
+                   (count(11, 35), [15, 0]), (shelf(1), [80, 80, 5, 0]), (count(11, 5), [0, 30]),
+                   (shelf(1), [50, 50, 5, 0]),
                    (count(12, 0), [0, 50]), (shelf(1), [0, 0, 5, 0]))
 
     def test_closed_sessions_used_it_still(self):
@@ -45,7 +48,8 @@ class ShelfTest(LineCase):
 
 class LotTest(LineCase):
     def test_a_new_lot(self):
-        self.check(*STOCK, (lot(12), [1, 8, 2, 50, 0, 50, 0, 0, 0, 0, 0]), (lot(20), [2, 7, 2, 40, 0, 40, 0, 0, 0, 0, 0]))
+        self.check(*STOCK, (lot(12), [1, 8, 2, 50, 0, 50, 0, 0, 0, 0, 0]),
+                   (lot(20), [2, 7, 2, 40, 0, 40, 0, 0, 0, 0, 0]))
 
     def test_more_of_it_on_another_day(self):
         self.check(*STOCK, (day(4), [0]), (receive(12, 1, 3, 8), [53]), (lot(12), [1, 8, 2, 53, 0, 53, 0, 0, 0, 0, 0]))
@@ -64,11 +68,13 @@ class LotTest(LineCase):
                    (lot(11), [1, 6, 2, 30, 7, 0, 0, 5, 30, 2, 1]), (lot(12), [1, 8, 2, 50, 0, 50, 0, 0, 0, 0, 0]))
 
     def test_the_day_goes_on(self):
-        self.check(*STOCK, (reserve(9, 1, 4), row((11, 4))), (day(6), [0]), (lot(11), [1, 6, 2, 30, 0, 26, 4, 0, 0, 0, 0]),
+        self.check(*STOCK, (reserve(9, 1, 4), row((11, 4))), (day(6), [0]),
+                   (lot(11), [1, 6, 2, 30, 0, 26, 4, 0, 0, 0, 0]),
                    (day(7), row((9, 11, 4))), (lot(11), [1, 6, 2, 30, 0, 30, 0, 0, 0, 0, 0]))
 
     def test_greatest_counts(self):
-        self.check(*granted(article(1000000)), (day(1000000), [0]), *received(receive(1000000000, 1000000, 1000000, 1000000)),
+        self.check(*granted(article(1000000)), (day(1000000), [0]),
+                   *received(receive(1000000000, 1000000, 1000000, 1000000)),
                    (count(1000000000, 1000000000), [999000000, 0]),
                    (lot(1000000000), [1000000, 1000000, 1000000, 1000000, 999000000, 1000000000, 0, 0, 0, 0, 0]),
                    (count(1000000000, 0), [0, 1000000000]),
@@ -88,7 +94,8 @@ class WhoTest(LineCase):
         self.check(*STOCK, (issue(9, 1, 3), row((11, 3))), (issue(9, 1, 2), row((11, 2))), (who(11), row((9, 5))))
 
     def test_what_is_held_is_not_told_until_it_is_taken(self):
-        self.check(*STOCK, (reserve(9, 1, 3), row((11, 3))), (who(11), [0]), (take(9), row((11, 3))), (who(11), row((9, 3))),
+        self.check(*STOCK, (reserve(9, 1, 3), row((11, 3))), (who(11), [0]), (take(9), row((11, 3))),
+                   (who(11), row((9, 3))),
                    (reserve(4, 1, 3), row((11, 3))), (release(4), row((11, 3))), (who(11), row((9, 3))))
 
     def test_what_came_back_is_not_told(self):
@@ -101,7 +108,8 @@ class WhoTest(LineCase):
 
     def test_lots_that_are_not_good(self):
         self.check(*STOCK, (issue(9, 1, 3), row((11, 3))), (issue(4, 2, 2), row((20, 2))), (day(7), [0]),
-                   (recall(20), [1, 4, 2, 0]), (who(11), row((9, 3))), (who(20), row((4, 2))), (sweep(), row((11, 27), (20, 38))),
+                   (recall(20), [1, 4, 2, 0]), (who(11), row((9, 3))), (who(20), row((4, 2))),
+                   (sweep(), row((11, 27), (20, 38))),
                    (who(11), row((9, 3))), (unused(4, 20, 2), [0]), (who(20), [0]))
 
     def test_broken_sessions_are_told(self):
@@ -124,7 +132,8 @@ class WhoTest(LineCase):
 
 class SoonTest(LineCase):
     def test_the_smaller_last_day_first(self):
-        self.check(*STOCK, (soon(10), row((11, 6, 30), (20, 7, 40), (12, 8, 50))), (soon(5), row((11, 6, 30), (20, 7, 40))))
+        self.check(*STOCK, (soon(10), row((11, 6, 30), (20, 7, 40), (12, 8, 50))),
+                   (soon(5), row((11, 6, 30), (20, 7, 40))))
 
     def test_the_day_and_d_together(self):
         self.check(*STOCK, (soon(3), [0]), (soon(4), row((11, 6, 30))), (soon(0), [0]), (day(5), [0]), (soon(0), [0]),
@@ -136,8 +145,10 @@ class SoonTest(LineCase):
                    (soon(5), row((11, 6, 30), (30, 6, 3), (1, 6, 4), (20, 7, 40), (5, 7, 2))))
 
     def test_a_free_count_of_0(self):
-        self.check(*STOCK, (throw(11, 29), [1]), (soon(4), row((11, 6, 1))), (reserve(9, 1, 1), row((11, 1))), (soon(4), [0]),
-                   (release(9), row((11, 1))), (soon(4), row((11, 6, 1))), (issue(9, 1, 1), row((11, 1))), (soon(4), [0]),
+        self.check(*STOCK, (throw(11, 29), [1]), (soon(4), row((11, 6, 1))), (reserve(9, 1, 1), row((11, 1))),
+                   (soon(4), [0]),
+                   (release(9), row((11, 1))), (soon(4), row((11, 6, 1))), (issue(9, 1, 1), row((11, 1))),
+                   (soon(4), [0]),
                    (unused(9, 11, 1), [0]), (soon(4), row((11, 6, 1))), (count(11, 0), [0, 1]), (soon(4), [0]))
 
     def test_lots_that_are_not_good(self):
@@ -147,7 +158,8 @@ class SoonTest(LineCase):
     def test_d_at_a_million(self):
         self.check(*granted(article(1)), *received(receive(10, 1, 5, 1000000), receive(11, 1, 5, 999999)),
                    (soon(1000000), row((11, 999999, 5), (10, 1000000, 5))), (soon(999999), row((11, 999999, 5))),
-                   (day(1), [0]), (soon(999999), row((11, 999999, 5), (10, 1000000, 5))), (soon(999998), row((11, 999999, 5))),
+                   (day(1), [0]), (soon(999999), row((11, 999999, 5), (10, 1000000, 5))),
+                   (soon(999998), row((11, 999999, 5))),
                    (day(1000000), [0]), (soon(0), row((10, 1000000, 5))), (soon(1000000), row((10, 1000000, 5))))
 
     def test_256_lots(self):
@@ -182,7 +194,8 @@ class ReasonsTest(LineCase):
                    (sweep(1), row((12, 50), (20, 39))), (reasons(), [89, 0, 0, 0, 0, 0, 0, 0, 31]))
 
     def test_what_is_refused_is_not_added(self):
-        self.check(*STOCK, (throw(11, 31, 3), [-15]), (throw(13, 1, 3), [-5]), (throw(11, 1, 10), [-1]), (sweep(0), [-1]),
+        self.check(*STOCK, (throw(11, 31, 3), [-15]), (throw(13, 1, 3), [-5]), (throw(11, 1, 10), [-1]),
+                   (sweep(0), [-1]),
                    (sweep(3), [0]), (reasons(), [0] * 9))
 
     def test_nothing_comes_back(self):

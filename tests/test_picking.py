@@ -124,8 +124,10 @@ class ReserveTest(LineCase):
                    (recall(11), [1, 5, 1, 1, 5, 5]), (close(5), [1]))
 
     def test_for_several_sessions(self):
-        self.check(*LOTS, *granted(open_(6)), (reserve(6, 1, 15), row((12, 15))), (reserve(5, 1, 7), row((12, 5), (11, 2))),
-                   (reserve(6, 1, 1), row((11, 1))), (release(6), row((12, 15), (11, 1))), (take(5), row((12, 5), (11, 2))))
+        self.check(*LOTS, *granted(open_(6)), (reserve(6, 1, 15), row((12, 15))),
+                   (reserve(5, 1, 7), row((12, 5), (11, 2))),
+                   (reserve(6, 1, 1), row((11, 1))), (release(6), row((12, 15), (11, 1))),
+                   (take(5), row((12, 5), (11, 2))))
 
     def test_refusals_in_their_order(self):
         self.check(*LOTS, (reserve(6, 1, 1), [-6]), (reserve(6, 2, 1), [-6]), (reserve(6, 2, 0), [-1]),

@@ -1,6 +1,7 @@
 """Point 16: recallof."""
 
-from tests.lines import (LineCase, article, close, count, day, granted, held, issue, lot, open_, recall, recallof, receive,
+from tests.lines import (LineCase, article, close, count, day, granted, held, issue, lot, open_, recall, recallof,
+                         receive,
                          received, recipe, release, reserve, row, shelf, soon, sweep, take, throw, unused, who)
 
 # Lots of article 1 that first came on the days 0, 2, 2, 5 and 7, and one of article 2.
@@ -42,8 +43,10 @@ class RecallofTest(LineCase):
                    (recallof(1), [2, 15, 12]), (recallof(1), [0]), (recall(12), [-13]))
 
     def test_lots_past_their_last_day(self):
-        self.check(*LOTS, (day(31), [0]), (lot(14), [1, 9, 5, 10, 0, 10, 0, 0, 0, 0, 0]), (recallof(1, 0, 5), [4, 15, 13, 16, 14]),
-                   (lot(14), [1, 9, 5, 10, 0, 10, 0, 0, 0, 0, 1]), (recall(14), [-13]), (soon(1000000), row((12, 40, 10))))
+        self.check(*LOTS, (day(31), [0]), (lot(14), [1, 9, 5, 10, 0, 10, 0, 0, 0, 0, 0]),
+                   (recallof(1, 0, 5), [4, 15, 13, 16, 14]),
+                   (lot(14), [1, 9, 5, 10, 0, 10, 0, 0, 0, 0, 1]), (recall(14), [-13]),
+                   (soon(1000000), row((12, 40, 10))))
 
     def test_empty_lots(self):
         self.check(*LOTS, (throw(14, 10), [0]), (recallof(1, 5, 5), [1, 14]), (count(14, 3), [3, 0]),
@@ -56,12 +59,14 @@ class RecallofTest(LineCase):
                    (held(4), [0, 1, 0]), (held(6), [0, 1, *row((13, 1), (23, 4))]),
                    (lot(15), [1, 20, 0, 10, 0, 10, 0, 0, 0, 0, 1]), (lot(14), [1, 9, 5, 10, 0, 0, 10, 0, 0, 0, 0]),
                    (lot(13), [1, 30, 2, 10, 0, 9, 1, 0, 0, 0, 0]), (lot(23), [2, 30, 2, 10, 0, 6, 4, 0, 0, 0, 0]),
-                   (take(9), [-16]), (reserve(4, 2, 1), [-16]), (release(6), row((13, 1), (23, 4))), (held(6), [0, 0, 0]))
+                   (take(9), [-16]), (reserve(4, 2, 1), [-16]), (release(6), row((13, 1), (23, 4))),
+                   (held(6), [0, 0, 0]))
         self.check(*LOTS, *held_for_three, (recallof(1, 2, 2), [2, 13, 16]), (held(9), [0, 0, *row((15, 2), (14, 10))]),
                    (held(4), [0, 0, *row((15, 3))]), (held(6), [0, 1, *row((15, 5), (23, 4))]))
 
     def test_only_those_for_which_something_was_held_are_broken(self):
-        self.check(*LOTS, (issue(9, 1, 3), row((14, 3))), (reserve(4, 2, 1), row((23, 1))), (reserve(6, 1, 1), row((14, 1))),
+        self.check(*LOTS, (issue(9, 1, 3), row((14, 3))), (reserve(4, 2, 1), row((23, 1))),
+                   (reserve(6, 1, 1), row((14, 1))),
                    (recallof(1), [5, 15, 13, 16, 14, 12]), (held(9), [0, 0, 0]), (held(4), [0, 0, *row((23, 1))]),
                    (held(6), [0, 1, 0]))
 
@@ -89,7 +94,8 @@ class RecallofTest(LineCase):
                    (recallof(1, 1000000, 1000000), [1, 11]), (recallof(1, 0, 0), [1, 10]))
 
     def test_a_day_of_the_store_is_no_matter(self):
-        self.check(*LOTS, (recallof(1, 8, 9), [0]), (day(9), [0]), (recallof(1, 9, 9), [0]), (recallof(1, 8, 1000000), [0]),
+        self.check(*LOTS, (recallof(1, 8, 9), [0]), (day(9), [0]), (recallof(1, 9, 9), [0]),
+                   (recallof(1, 8, 1000000), [0]),
                    *received(receive(18, 1, 2, 9)), (recallof(1, 8, 1000000), [1, 18]))
 
     def test_256_lots(self):

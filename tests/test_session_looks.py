@@ -9,7 +9,8 @@ STOCK = [*granted(article(1), article(2), article(3), recipe(3, 2, 1, 1, 2), ope
 
 class UsesTest(LineCase):
     def test_lots_in_the_order_in_which_they_first_came(self):
-        self.check(*STOCK, (uses(9), [0]), (issue(9, 1, 40), row((11, 30), (12, 10))), (uses(9), row((12, 10), (11, 30))),
+        self.check(*STOCK, (uses(9), [0]), (issue(9, 1, 40), row((11, 30), (12, 10))),
+                   (uses(9), row((12, 10), (11, 30))),
                    (issue(9, 3, 2), row((12, 4), (20, 2))), (uses(9), row((12, 14), (11, 30), (20, 2))), (uses(4), [0]))
 
     def test_only_its_own(self):
@@ -18,11 +19,13 @@ class UsesTest(LineCase):
 
     def test_what_is_held_is_not_used_until_it_is_taken(self):
         self.check(*STOCK, (reserve(9, 1, 3), row((11, 3))), (uses(9), [0]), (issue(9, 1, 1), row((11, 1))),
-                   (uses(9), row((11, 1))), (take(9), row((11, 3))), (uses(9), row((11, 4))), (reserve(9, 1, 3), row((11, 3))),
+                   (uses(9), row((11, 1))), (take(9), row((11, 3))), (uses(9), row((11, 4))),
+                   (reserve(9, 1, 3), row((11, 3))),
                    (release(9), row((11, 3))), (uses(9), row((11, 4))))
 
     def test_what_came_back_is_not_told(self):
-        self.check(*STOCK, (issue(9, 1, 32), row((11, 30), (12, 2))), (unused(9, 11, 29), [1]), (uses(9), row((12, 2), (11, 1))),
+        self.check(*STOCK, (issue(9, 1, 32), row((11, 30), (12, 2))), (unused(9, 11, 29), [1]),
+                   (uses(9), row((12, 2), (11, 1))),
                    (unused(9, 11, 1), [0]), (uses(9), row((12, 2))), (unused(9, 12, 2), [0]), (uses(9), [0]))
 
     def test_lots_that_are_not_good(self):
@@ -55,20 +58,25 @@ class HeldTest(LineCase):
                    (held(9), [0, 0, *row((12, 3), (11, 30), (20, 1))]), (held(4), [0, 0, 0]))
 
     def test_only_its_own(self):
-        self.check(*STOCK, (reserve(9, 1, 3), row((11, 3))), (reserve(4, 1, 2), row((11, 2))), (held(9), [0, 0, 1, 11, 3]),
-                   (held(4), [0, 0, 1, 11, 2]), (release(4), row((11, 2))), (held(9), [0, 0, 1, 11, 3]), (held(4), [0, 0, 0]))
+        self.check(*STOCK, (reserve(9, 1, 3), row((11, 3))), (reserve(4, 1, 2), row((11, 2))),
+                   (held(9), [0, 0, 1, 11, 3]),
+                   (held(4), [0, 0, 1, 11, 2]), (release(4), row((11, 2))), (held(9), [0, 0, 1, 11, 3]),
+                   (held(4), [0, 0, 0]))
 
     def test_take_and_release(self):
         self.check(*STOCK, (reserve(9, 1, 3), row((11, 3))), (take(9), row((11, 3))), (held(9), [0, 0, 0]),
                    (reserve(9, 1, 4), row((11, 4))), (unused(9, 11, 3), [0]), (held(9), [0, 0, 1, 11, 4]),
-                   (release(9), row((11, 4))), (held(9), [0, 0, 0]), (issue(9, 1, 1), row((11, 1))), (held(9), [0, 0, 0]))
+                   (release(9), row((11, 4))), (held(9), [0, 0, 0]), (issue(9, 1, 1), row((11, 1))),
+                   (held(9), [0, 0, 0]))
 
     def test_a_closed_session(self):
         self.check(*STOCK, (issue(9, 1, 3), row((11, 3))), (close(9), [3]), (held(9), [1, 0, 0]), (held(4), [0, 0, 0]))
 
     def test_a_broken_session(self):
-        self.check(*STOCK, (reserve(9, 1, 31), row((11, 30), (12, 1))), (day(6), [0]), (held(9), [0, 0, 2, 12, 1, 11, 30]),
-                   (day(7), row((9, 11, 30))), (held(9), [0, 1, 1, 12, 1]), (recall(12), [0, 1, 9, 1]), (held(9), [0, 1, 0]),
+        self.check(*STOCK, (reserve(9, 1, 31), row((11, 30), (12, 1))), (day(6), [0]),
+                   (held(9), [0, 0, 2, 12, 1, 11, 30]),
+                   (day(7), row((9, 11, 30))), (held(9), [0, 1, 1, 12, 1]), (recall(12), [0, 1, 9, 1]),
+                   (held(9), [0, 1, 0]),
                    (issue(9, 2, 1), row((20, 1))), (held(9), [0, 1, 0]), (release(9), [0]), (held(9), [0, 0, 0]))
 
     def test_broken_and_closed(self):
@@ -130,7 +138,8 @@ class ClusterTest(LineCase):
     def test_a_join_that_unused_took_away(self):
         self.check(*self.lots, (issue(72, 1, 2), row((10, 2))), *self.used((71, 1), (72, 2), (73, 2)),
                    (cluster(71), [3, 71, 72, 73]), (unused(72, 10, 1), [1]), (cluster(71), [3, 71, 72, 73]),
-                   (unused(72, 10, 1), [0]), (cluster(71), [1, 71]), (cluster(73), [2, 72, 73]), (cluster(72), [2, 72, 73]),
+                   (unused(72, 10, 1), [0]), (cluster(71), [1, 71]), (cluster(73), [2, 72, 73]),
+                   (cluster(72), [2, 72, 73]),
                    *self.used((72, 1)), (cluster(73), [3, 71, 72, 73]))
 
     def test_two_lots_in_common(self):
@@ -163,7 +172,8 @@ class ClusterTest(LineCase):
             looks = [(cluster(k), everybody) for k in (order[0], order[1], order[64], order[127])]
             self.check(*steps, *looks, (unused(order[64], 64, 1), [0]),
                        (cluster(order[0]), [64, *sorted(order[:64])]), (cluster(order[63]), [64, *sorted(order[:64])]),
-                       (cluster(order[64]), [64, *sorted(order[64:])]), (cluster(order[127]), [64, *sorted(order[64:])]))
+                       (cluster(order[64]), [64, *sorted(order[64:])]),
+                       (cluster(order[127]), [64, *sorted(order[64:])]))
 
     def test_128_sessions_of_one_lot(self):
         sessions = range(128, 0, -1)

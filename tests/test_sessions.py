@@ -1,6 +1,7 @@
 """Points 5, 6 and 9 to 11: open, close, take, release, unused."""
 
-from tests.lines import (LineCase, article, close, count, day, granted, issue, open_, recall, receive, received, release,
+from tests.lines import (LineCase, article, close, count, day, granted, issue, open_, recall, receive, received,
+                         release,
                          reserve, row, sweep, take, throw, unused)
 
 STOCK = [*granted(article(1), article(2), open_(5)),
@@ -38,7 +39,8 @@ class CloseTest(LineCase):
                    (recall(11), [1, 5, 1, 0]))
 
     def test_something_is_held(self):
-        self.check(*STOCK, (reserve(5, 1, 1), row((11, 1))), (close(5), [-18]), (take(5), row((11, 1))), (close(5), [1]))
+        self.check(*STOCK, (reserve(5, 1, 1), row((11, 1))), (close(5), [-18]), (take(5), row((11, 1))),
+                   (close(5), [1]))
         self.check(*STOCK, (reserve(5, 1, 1), row((11, 1))), (release(5), row((11, 1))), (close(5), [0]))
 
     def test_what_is_held_for_another_is_no_matter(self):
@@ -126,7 +128,8 @@ class UnusedTest(LineCase):
                    (throw(11, 10), [-15]), (throw(11, 9), [0]), (issue(5, 1, 1), row((12, 1))))
 
     def test_a_lot_past_its_last_day(self):
-        self.check(*STOCK, (issue(5, 1, 4), row((11, 4))), (day(9), [0]), (unused(5, 11, 3), [1]), (count(11, 9), [0, 0]),
+        self.check(*STOCK, (issue(5, 1, 4), row((11, 4))), (day(9), [0]), (unused(5, 11, 3), [1]),
+                   (count(11, 9), [0, 0]),
                    (issue(5, 1, 1), row((12, 1))), (sweep(), row((11, 9))))
 
     def test_what_is_held_is_not_used(self):
