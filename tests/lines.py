@@ -8,7 +8,6 @@ from tests.audit import audit, snapshot
 
 LEAST_NUMBER = -9223372036854775808
 GREATEST_NUMBER = 9223372036854775807
-NOTHING_TOLD = [0]
 
 
 def day(d):

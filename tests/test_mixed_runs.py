@@ -20,14 +20,18 @@ class Ledger:
         self.held = Counter()
         self.thrown_for = Counter()
         self.called_back = set()
+        self.last_days = {}
+        self.day = 0
 
     def note(self, call, answer):
         place, *given = call
         pairs = pairs_of(answer)
         if place == 0:
+            self.day = given[0]
             self.note_dropped(zip(answer[1::3], answer[2::3], answer[3::3]))
         if place == 4:
             self.came[given[0]] += given[2]
+            self.last_days[given[0]] = given[3]
         if place == 7:
             self.handed_out.update({(lot, given[0]): count for lot, count in pairs})
         if place == 8:
@@ -138,6 +142,10 @@ class MixedRunsTest(LineCase):
 
     def check_step(self, ledger, call, answer):
         place, *given = call
+        if place in (7, 8, 9):
+            for lot, _ in pairs_of(answer):
+                self.assertNotIn(lot, ledger.called_back)
+                self.assertLessEqual(ledger.day, ledger.last_days[lot])
         if place == 12:
             self.assertEqual(answer[0], ledger.free(given[0]) - given[1])
         if place == 14:
